@@ -1,0 +1,1 @@
+"""Crewlists: which jobs explain the crews."""
