@@ -4,6 +4,7 @@ from itertools import combinations, permutations
 from random import Random
 
 from crewlists.errors import CrewError, Nothing
+from crewlists.family import Family
 from crewlists.jobs import Jobs
 
 
@@ -115,3 +116,91 @@ def random_lists(seed, count, most=7):
         ]
         found.append(Jobs(size, jobs))
     return found
+
+
+def slow_fault(crews):
+    """Return the first crew, the first other and the least person without an exchange; None if there is none."""
+    rows = sorted(set(crews), key=lambda crew: (len(crew), crew))
+    for one in rows:
+        for other in rows:
+            for person in minus(one, other):
+                made = [union(minus(one, (person,)), (newcomer,)) for newcomer in minus(other, one)]
+                if not any(crew in rows for crew in made):
+                    return one, other, person
+    return None
+
+
+def crew_sets(size, many):
+    """Return all lists of one or more different groups with many members, the groups in order."""
+    rows = list(combinations(range(size), many))
+    return [
+        [crew for at, crew in enumerate(rows) if chosen >> at & 1]
+        for chosen in range(1, 1 << len(rows))
+    ]
+
+
+def all_families(size):
+    """Return all Families of a size, told from other lists of crews by the slow look at exchanges."""
+    return [
+        Family(size, crews)
+        for many in range(size + 1) for crews in crew_sets(size, many) if slow_fault(crews) is None
+    ]
+
+
+def few_families():
+    """Return all Families of at most four people, and some larger ones, some of them without an explanation."""
+    found = [family for size in range(5) for family in all_families(size)]
+    found.extend(all_families(5)[::15])
+    return found + large_families()
+
+
+def large_families():
+    """Return some Families of six and seven people."""
+    found = [Family.uniform(7, 0), Family.uniform(7, 3), Family.uniform(7, 7), PAIRS, LINES, ~LINES, ~PAIRS]
+    lists = random_lists(8, 200)
+    return found + [Family.of(jobs) for jobs in lists if jobs.size > 5 and len(jobs) in (2, 3, 4)][:12]
+
+
+def slow_part_of_crews(family, group):
+    """Return the strength of a group, by the members that it shares with a crew."""
+    return max(len(set(group) & set(crew)) for crew in family.crews)
+
+
+def slow_clashes(family):
+    """Return all clashes, straight from their definition."""
+    placed = {part for crew in family.crews for part in parts_of(crew)}
+    return [
+        group for group in all_groups(family.size)
+        if group not in placed and all(part in placed for part in parts_of(group)[:-1])
+    ]
+
+
+def slow_knots(family):
+    """Return all knots: the groups outside of which nobody adds nothing, and whose members are all in clashes."""
+    found = []
+    for group in all_groups(family.size):
+        old = slow_part_of_crews(family, group)
+        others = minus(range(family.size), group)
+        closed = all(slow_part_of_crews(family, union(group, (person,))) > old for person in others)
+        if closed and union(*[clash for clash in slow_clashes(family) if set(clash) <= set(group)]) == group:
+            found.append(group)
+    return found
+
+
+def slow_weights(family):
+    """Return the weights of the knots, from the longest one on."""
+    found = {}
+    for knot in reversed(slow_knots(family)):
+        above = sum(weight for other, weight in found.items() if set(knot) < set(other))
+        found[knot] = family.full - slow_part_of_crews(family, knot) - above
+    return [(knot, found[knot]) for knot in reversed(list(found))]
+
+
+def slow_above(family, group):
+    """Return the sum of the weights of the knots that contain the group."""
+    return sum(weight for knot, weight in slow_weights(family) if set(group) <= set(knot))
+
+
+# Six people: all pairs are crews but three. Seven people: three lines through person 0.
+PAIRS = Family(6, [pair for pair in combinations(range(6), 2) if pair not in ((0, 1), (2, 3), (4, 5))])
+LINES = Family(7, [crew for crew in combinations(range(7), 3) if crew not in ((0, 1, 2), (0, 3, 4), (0, 5, 6))])
