@@ -4,7 +4,7 @@ from crewlists.checks import is_count, is_row
 from crewlists.dealing import placeable
 from crewlists.errors import BadCrew, NoCrew, NoExchange, TooMany, Uneven, Unlike, Wrong
 from crewlists.groups import (
-    apart, groups, in_order, is_group, is_part, parts, recalled, renumbered, shifted, together,
+    apart, groups, in_order, is_group, is_part, others, parts, recalled, renumbered, shifted, together,
 )
 
 LIMIT = 7
@@ -76,23 +76,19 @@ class Family:
         return Family(self.size + other.size, [crew + more for crew in self.crews for more in behind])
 
     def __sub__(self, group):
-        stay = self._others(group)
+        stay = others(self.size, group)
         left = _longest([placed for placed in self._groups if is_part(placed, stay)])
         return Family(len(stay), [renumbered(crew, stay) for crew in left])
 
     def __floordiv__(self, group):
-        stay = self._others(group)
+        stay = others(self.size, group)
         many = self.full - self._strengths[group]
         left = [part for part in parts(stay) if len(part) == many]
         crews = [part for part in left if self._strengths[together(part, group)] == self.full]
         return Family(len(stay), [renumbered(crew, stay) for crew in crews])
 
     def __invert__(self):
-        return Family(self.size, [self._others(crew) for crew in self.crews])
-
-    def _others(self, group):
-        """Return the group of all who are not in the group."""
-        return apart(tuple(range(self.size)), group)
+        return Family(self.size, [others(self.size, crew) for crew in self.crews])
 
 
 def _check_groups(size, crews):
@@ -121,8 +117,7 @@ def _check_exchanges(size, crews):
 def _newcomers(size, known, crew, person):
     """Return those who make one of the known crews if put in the place of a member of the crew."""
     rest = apart(crew, (person,))
-    outside = apart(tuple(range(size)), crew)
-    return [newcomer for newcomer in outside if together(rest, (newcomer,)) in known]
+    return [newcomer for newcomer in others(size, crew) if together(rest, (newcomer,)) in known]
 
 
 def _distinct(rows):

@@ -46,6 +46,11 @@ def apart(one, other):
     return tuple([person for person in one if person not in other])
 
 
+def others(size, group):
+    """Return the group of all people of the size who are not in the group."""
+    return apart(tuple(range(size)), group)
+
+
 def is_part(one, other):
     """Return whether all members of one are in other."""
     return apart(one, other) == ()

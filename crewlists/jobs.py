@@ -1,9 +1,9 @@
 """Job lists: for each job, the people who can do it."""
 
-from crewlists.checks import is_count, is_row
+from crewlists.checks import check_jobs
 from crewlists.dealing import strength
-from crewlists.errors import NoJob, TooMany, Unlike, Wrong
-from crewlists.groups import apart, is_group, recalled, renumbered, shifted, together
+from crewlists.errors import TooMany, Unlike
+from crewlists.groups import apart, others, recalled, renumbered, shifted, together
 
 LIMIT = 7
 
@@ -12,13 +12,7 @@ class Jobs:
     """A job list of a size: at most seven jobs, each the group of the people who can do it."""
 
     def __init__(self, size, jobs):
-        if not is_count(size, LIMIT):
-            raise Wrong(0)
-        if not is_row(jobs, LIMIT):
-            raise Wrong(1)
-        for at, job in enumerate(jobs):
-            if not is_group(size, job):
-                raise NoJob(at)
+        check_jobs(size, jobs, LIMIT, LIMIT)
         self.size = size
         self.jobs = tuple(jobs)
 
@@ -33,7 +27,7 @@ class Jobs:
 
     def outside(self, at):
         """Return the group of all who cannot do the job."""
-        return apart(tuple(range(self.size)), self.jobs[at])
+        return others(self.size, self.jobs[at])
 
     def put(self, at, person):
         """Return the Jobs in which the person can do the job, too."""
@@ -105,5 +99,5 @@ class Jobs:
         return Jobs(self.size + other.size, list(self.jobs) + behind)
 
     def __sub__(self, group):
-        stay = apart(tuple(range(self.size)), group)
+        stay = others(self.size, group)
         return Jobs(len(stay), [renumbered(job, stay) for job in self.jobs])

@@ -1,6 +1,7 @@
 """Decides whether a family has an explanation: the greatest one, or the numbers that bar every one."""
 
-from crewlists.groups import apart, groups, in_order, is_group, is_integer
+from crewlists.errors import NotExplained
+from crewlists.groups import groups, in_order, is_group, is_integer, others
 from crewlists.jobs import Jobs
 from crewlists.weights import above, room, sum_above, weights
 
@@ -20,10 +21,9 @@ def lists_of(family):
 
 def _greatest(size, weighed):
     """Return the list of the groups of all outside of a knot, each as often as its weight says, in order."""
-    whole = tuple(range(size))
     found = []
     for knot, weight in weighed:
-        found.extend([apart(whole, knot)] * weight)
+        found.extend([others(size, knot)] * weight)
     return in_order(found)
 
 
@@ -51,3 +51,11 @@ def _is_greatest(family, thing):
 def is_explained(family):
     """Return whether the family has an explanation."""
     return lists_of(family)[0] == "jobs"
+
+
+def explained(family):
+    """Return the greatest tight explanation; raise NotExplained if there is none."""
+    answer = lists_of(family)
+    if answer[0] != "jobs":
+        raise NotExplained(answer)
+    return answer[1]

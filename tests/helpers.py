@@ -1,5 +1,6 @@
 """What several tests need: odd values, small job lists, and slow counts made without the package."""
 
+from functools import cache
 from itertools import combinations, permutations
 from random import Random
 
@@ -118,6 +119,95 @@ def random_lists(seed, count, most=7):
     return found
 
 
+def grown(jobs):
+    """Return all placeable groups in order, by letting one job after the other take nobody or one more person."""
+    found = {frozenset()}
+    for job in jobs.jobs:
+        found |= {group | {person} for group in found for person in job}
+    return in_order(tuple(sorted(group)) for group in found)
+
+
+def in_order(rows):
+    """Return the list of the groups in rows by length, those of one length as Python orders them."""
+    return sorted(rows, key=lambda group: (len(group), group))
+
+
+def slow_apart(one, other):
+    """Return all groups that are placeable in just one of two job lists, in order."""
+    return in_order(set(grown(one)) ^ set(grown(other)))
+
+
+def filled(jobs, indexes):
+    """Return the Jobs in which everybody is put into the jobs with these indexes who changes no group there."""
+    placed, left, before = grown(jobs), jobs, None
+    while left != before:
+        before = left
+        for at in indexes:
+            for person in range(jobs.size):
+                more = Jobs(jobs.size, left.jobs[:at] + (union(left.jobs[at], (person,)),) + left.jobs[at + 1:])
+                if grown(more) == placed:
+                    left = more
+    return left
+
+
+def tight(jobs):
+    """Return the Jobs with just those jobs that one crew does."""
+    dealt = slow_deals(jobs, grown(jobs)[-1])[0]
+    return Jobs(jobs.size, [jobs.jobs[at] for at in sorted(dealt)])
+
+
+def slow_greatest(jobs, many=None):
+    """Return the greatest alike job list, by putting people in until nobody more may be put in."""
+    least = tight(jobs)
+    many = len(least) if many is None else many
+    found = filled(Jobs(jobs.size, least.jobs + ((),) * (many - len(least))), range(many))
+    return Jobs(jobs.size, in_order(found.jobs))
+
+
+def struck_lists(jobs):
+    """Return all Jobs that have one person less in one job, as tuples (index, person, Jobs)."""
+    return [
+        (at, person, Jobs(jobs.size, jobs.jobs[:at] + (minus(job, (person,)),) + jobs.jobs[at + 1:]))
+        for at, job in enumerate(jobs.jobs) for person in job
+    ]
+
+
+def explanations(size, many):
+    """Return the dict of all Jobs with many jobs, by the crews of their families."""
+    found = {}
+    for jobs in job_lists(size, many):
+        found.setdefault(Family.of(jobs).crews, []).append(jobs)
+    return found
+
+
+def lies_below(jobs, greater):
+    """Return whether the jobs can be paired with greater ones so that each is a part of its partner."""
+    if len(jobs) != len(greater):
+        return False
+    return any(
+        all(set(job) <= set(upper) for job, upper in zip(jobs.jobs, order))
+        for order in permutations(greater.jobs)
+    )
+
+
+# The sizes and numbers of jobs whose job lists are all gone through.
+FEW_SHAPES = (
+    (0, 0), (1, 0), (1, 1), (2, 1), (2, 2), (3, 0), (3, 1), (3, 2), (3, 3), (4, 1), (4, 2), (4, 3), (4, 4), (5, 2),
+    (5, 3), (6, 2),
+)
+
+
+@cache
+def explained_families():
+    """Return tuples (family, all its tight explanations) for all families with few enough job lists."""
+    found = []
+    for size, many in FEW_SHAPES:
+        for crews, explaining in explanations(size, many).items():
+            if len(crews[0]) == many:
+                found.append((Family(size, crews), explaining))
+    return found
+
+
 def slow_fault(crews):
     """Return the first crew, the first other and the least person without an exchange; None if there is none."""
     rows = sorted(set(crews), key=lambda crew: (len(crew), crew))
@@ -164,6 +254,13 @@ def large_families():
 def slow_part_of_crews(family, group):
     """Return the strength of a group, by the members that it shares with a crew."""
     return max(len(set(group) & set(crew)) for crew in family.crews)
+
+
+def unexplained_families():
+    """Return families of six and seven people that have no explanation."""
+    one = Family.uniform(1, 1)
+    more = Family(7, [crew for crew in LINES.crews if crew != (1, 3, 5)])
+    return [PAIRS, LINES, more, PAIRS | one, PAIRS | ~one]
 
 
 def slow_clashes(family):

@@ -1,7 +1,7 @@
 """[5], [6], [8], [12], [17]: what holds for all job lists and families, over many small ones."""
 
 import unittest
-from itertools import combinations, permutations
+from itertools import combinations
 
 from crewlists.dealing import placeable, short_part, strength
 from crewlists.errors import CrewError
@@ -12,27 +12,9 @@ from crewlists.reasons import is_explained, lists_of
 from crewlists.structure import clashes, is_round, knots, needed, round_part
 from crewlists.weights import above, room, weights
 from helpers import (
-    LINES, PAIRS, all_families, all_groups, few_families, few_lists, job_lists, large_families, random_lists,
-    slow_deals,
+    LINES, PAIRS, all_families, all_groups, explanations, few_families, few_lists, job_lists, large_families,
+    lies_below, random_lists, slow_deals,
 )
-
-
-def explanations(size, many):
-    """Return the dict of all Jobs with many jobs, by the crews of their families."""
-    found = {}
-    for jobs in job_lists(size, many):
-        found.setdefault(Family.of(jobs).crews, []).append(jobs)
-    return found
-
-
-def lies_below(jobs, greater):
-    """Return whether the jobs can be paired with greater ones so that each is a part of its partner."""
-    if len(jobs) != len(greater):
-        return False
-    return any(
-        all(set(job) <= set(upper) for job, upper in zip(jobs.jobs, order))
-        for order in permutations(greater.jobs)
-    )
 
 
 class ExplainedTest(unittest.TestCase):

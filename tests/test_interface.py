@@ -6,8 +6,10 @@ import unittest
 from importlib import import_module
 from pathlib import Path
 
+from crewlists.evidence import Evidence
 from crewlists.family import Family
 from crewlists.jobs import Jobs
+from crewlists.rolls import Roll
 
 PACKAGE = Path(__file__).parent.parent / "crewlists"
 
@@ -29,6 +31,19 @@ FUNCTIONS = {
     ],
     "weights": ["weights(family)", "above(family, group)", "room(family, group)", "round_bound(family, rounds)"],
     "reasons": ["lists_of(family)", "is_answer(family, thing)", "is_explained(family)"],
+    "greatest": ["greatest(jobs, *, many=None)", "places(jobs)", "lost(one, other)", "same(one, other)"],
+    "needs": ["enough(jobs, indexes)", "least_enough(jobs)", "spare(jobs)", "alone(family, person)"],
+    "changes": [
+        "may_put(jobs, at, person)", "may_strike(jobs, at, person)", "least(jobs)", "is_least(jobs)",
+        "least_sizes(family)",
+    ],
+    "lists": [
+        "explains(family, jobs)", "all_tight(family, *, most=60)", "all_least(family, *, most=60)",
+        "steps(one, other)",
+    ],
+    "sharing": ["fewest_jobs(family, person)", "share(family, one, other)"],
+    "made": ["parted(one, other, group)", "common(one, other)", "helper(family, group)"],
+    "likeness": ["renaming(one, other)", "symmetries(family)"],
 }
 
 METHODS = {
@@ -41,6 +56,11 @@ METHODS = {
         "__init__(self, size, crews)", "strength(self, group)", "renamed(self, order)", "capped(self, limit)",
         "of(jobs)", "uniform(size, many)",
     ],
+    Roll: [
+        "__init__(self, size, jobs)", "of(jobs)", "strength(self, group)", "short_part(self, group)",
+        "deal(self, group)", "greatest(self)", "alike(self, other)", "parting(self, other)",
+    ],
+    Evidence: ["__init__(self, size, sightings, wrong=0)", "against(self, family)", "fits(self, family)"],
 }
 
 
@@ -59,6 +79,7 @@ class InterfaceTest(unittest.TestCase):
             for text in listed:
                 name = text.split("(")[0]
                 self.assertIn(name, vars(kind))
+                self.assertEqual(getattr(kind, name).__module__, kind.__module__)
                 self.assertEqual(name + str(inspect.signature(getattr(kind, name))), text)
 
     def test_deals_is_a_generator(self):
