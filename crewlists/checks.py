@@ -23,3 +23,28 @@ def check_jobs(size, jobs, most_people, most_jobs):
     for at, job in enumerate(jobs):
         if not is_group(size, job):
             raise NoJob(at)
+
+
+def is_tree(thing, word):
+    """Return whether thing, any value, is a list of rows in which each row but the first is named once, ahead of it.
+
+    A row is a tuple that begins with a string. Those with the word name two rows, by their last two items of four.
+    """
+    if not isinstance(thing, list) or len(thing) == 0:
+        return False
+    named = []
+    for at, row in enumerate(thing):
+        if not isinstance(row, tuple) or len(row) == 0 or not isinstance(row[0], str):
+            return False
+        if row[0] == word:
+            if len(row) != 4 or not all([is_integer(to) and to > at for to in row[2:]]):
+                return False
+            named.extend(row[2:])
+    return sorted(named) == list(range(1, len(thing)))
+
+
+def is_crews(family, thing):
+    """Return whether thing, any value, is the tuple of the crews of the family."""
+    if not isinstance(thing, tuple) or not all([is_group(family.size, crew) for crew in thing]):
+        return False
+    return thing == family.crews

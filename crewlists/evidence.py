@@ -21,7 +21,7 @@ class Evidence:
         if not is_count(wrong, MOST_WRONG):
             raise Wrong(2)
         for at, sighting in enumerate(sightings):
-            if not _is_sighting(size, sighting):
+            if not is_sighting(size, sighting):
                 raise BadSighting(at)
         self.size = size
         self.sightings = tuple(sightings)
@@ -52,6 +52,6 @@ class Evidence:
         return Evidence(self.size, self.sightings + (sighting,), self.wrong)
 
 
-def _is_sighting(size, thing):
+def is_sighting(size, thing):
     """Return whether thing, any value, is a group of the size with True or False."""
     return isinstance(thing, tuple) and len(thing) == 2 and is_group(size, thing[0]) and isinstance(thing[1], bool)

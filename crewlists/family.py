@@ -48,7 +48,7 @@ class Family:
 
     def capped(self, limit):
         """Return the Family of the placeable groups with at most limit members."""
-        return Family(self.size, _longest([group for group in self._groups if len(group) <= limit]))
+        return family_of(self.size, [group for group in self._groups if len(group) <= limit])
 
     def __contains__(self, group):
         return is_group(self.size, group) and self._strengths[group] == len(group)
@@ -91,6 +91,11 @@ class Family:
         return Family(self.size, [others(self.size, crew) for crew in self.crews])
 
 
+def family_of(size, placed):
+    """Return the Family whose placeable groups are those in placed."""
+    return Family(size, _longest(placed))
+
+
 def _check_groups(size, crews):
     """Raise the error of the first item that is no group of the size, or of another length than the first."""
     for at, crew in enumerate(crews):
@@ -107,14 +112,14 @@ def _check_exchanges(size, crews):
     """Raise NoExchange for the first two crews, and the least person of one, that nobody of other can replace."""
     known = {crew: True for crew in crews}
     for one in crews:
-        newcomers = {member: _newcomers(size, known, one, member) for member in one}
+        fitting = {member: newcomers(size, known, one, member) for member in one}
         for other in crews:
             for person in apart(one, other):
-                if not any([newcomer in other for newcomer in newcomers[person]]):
+                if not any([newcomer in other for newcomer in fitting[person]]):
                     raise NoExchange(one, other, person)
 
 
-def _newcomers(size, known, crew, person):
+def newcomers(size, known, crew, person):
     """Return those who make one of the known crews if put in the place of a member of the crew."""
     rest = apart(crew, (person,))
     return [newcomer for newcomer in others(size, crew) if together(rest, (newcomer,)) in known]

@@ -5,6 +5,7 @@ from itertools import combinations, permutations
 from random import Random
 
 from crewlists.errors import CrewError, Nothing
+from crewlists.evidence import Evidence
 from crewlists.family import Family
 from crewlists.jobs import Jobs
 
@@ -301,3 +302,168 @@ def slow_above(family, group):
 # Six people: all pairs are crews but three. Seven people: three lines through person 0.
 PAIRS = Family(6, [pair for pair in combinations(range(6), 2) if pair not in ((0, 1), (2, 3), (4, 5))])
 LINES = Family(7, [crew for crew in combinations(range(7), 3) if crew not in ((0, 1, 2), (0, 3, 4), (0, 5, 6))])
+
+
+def drawn(seed, size, count):
+    """Return some sightings of all groups of a size."""
+    chance = Random(seed)
+    return [(chance.choice(all_groups(size)), chance.choice([True, False])) for _ in range(count)]
+
+
+def seen(chance, family, count, wrong):
+    """Return some sightings, most of them true for the family, wrong of them perhaps not."""
+    rows = [(group, group in family) for group in chance.choices(all_groups(family.size), k=count)]
+    for at in chance.sample(range(count), min(wrong, count)):
+        rows[at] = (rows[at][0], chance.choice([True, False]))
+    return rows
+
+
+def drawn_evidence(seed, count, most_people=4, most_sightings=40):
+    """Return some Evidence with few and many sightings, some of which agree with a family and some with none."""
+    chance = Random(seed)
+    families = [family for size in range(most_people + 1) for family in all_families(size)]
+    found = []
+    for _ in range(count):
+        family, many = chance.choice(families), chance.randint(0, most_sightings)
+        wrong = chance.choice([0, 0, 1, 2, 5, 40])
+        rows = seen(chance, family, many, chance.choice([0, wrong, wrong + 1, many]))
+        found.append(Evidence(family.size, rows, chance.choice([0, wrong])))
+    return found
+
+
+def all_begun(size):
+    """Return all that a walk may begin with."""
+    return [()] + [((group, truth),) for group in all_groups(size)[1:] for truth in (True, False)]
+
+
+def slow_marks(size, case):
+    """Return the marks of a case, told by the list of the groups (group, truth) that were asked for or begun."""
+    marks = {}
+    for group in all_groups(size):
+        if group == () or any(truth and set(group) <= set(other) for other, truth in case):
+            marks[group] = True
+        elif any(not truth and set(other) <= set(group) for other, truth in case):
+            marks[group] = False
+    return marks
+
+
+def slow_shifts(marks):
+    """Return all groups (one, other) that a row "shift" may have, in order."""
+    return [
+        (one, other) for one in marks for other in marks
+        if marks[one] and marks[other] and len(other) == len(one) + 1
+        and all(marks.get(union(one, (person,))) is False for person in minus(other, one))
+    ]
+
+
+def slow_answers(family):
+    """Return all answers, the first one first, that are right for a family without an explanation."""
+    weighed = slow_weights(family)
+    answers = [("below", knot, weight) for knot, weight in weighed if weight < 0]
+    for group in all_groups(family.size):
+        total = sum(weight for knot, weight in weighed if set(group) <= set(knot))
+        if total > family.full - slow_part_of_crews(family, group):
+            answers.append(("over", group, total))
+    return answers
+
+
+def right_rows(evidence, marks):
+    """Return all rows that are right in a case, those of walk first, without rows "ask"."""
+    against = [at for at, (group, truth) in enumerate(evidence.sightings) if marks.get(group) is (not truth)]
+    rows = [("wrong", indexes) for indexes in combinations(against, evidence.wrong + 1)]
+    shifts = slow_shifts(marks)
+    rows += [("shift", one, other) for one, other in shifts]
+    if len(marks) == 2 ** evidence.size and not shifts:
+        placed = [group for group in marks if marks[group]]
+        family = Family(evidence.size, [group for group in placed if len(group) == max(map(len, placed))])
+        answers = slow_answers(family)
+        if answers:
+            rows += [("quarrel", answer) for answer in answers]
+        elif len(against) <= evidence.wrong:
+            rows.append(("fits", family.crews))
+    return rows
+
+
+def slow_row(evidence, marks):
+    """Return the row that walk makes in a case; if it is a row "ask", without its indexes."""
+    against = [at for at, (group, truth) in enumerate(evidence.sightings) if marks.get(group) is (not truth)]
+    if len(against) > evidence.wrong:
+        return ("wrong", tuple(against[:evidence.wrong + 1]))
+    told = [group for group, _ in evidence.sightings] + all_groups(evidence.size)
+    unmarked = [group for group in told if group not in marks]
+    if unmarked and not slow_shifts(marks):
+        return ("ask", unmarked[0])
+    return right_rows(evidence, marks)[0]
+
+
+def slow_walk(evidence, begun=()):
+    """Return the walk, each row found by going through the rows in the order of the document."""
+    rows = []
+
+    def go(case):
+        at = len(rows)
+        rows.append(None)
+        row = slow_row(evidence, slow_marks(evidence.size, case))
+        if row[0] == "ask":
+            yes = len(rows)
+            go(case + [(row[1], True)])
+            no = len(rows)
+            go(case + [(row[1], False)])
+            row += (yes, no)
+        rows[at] = row
+
+    go(list(begun))
+    return rows
+
+
+def until_it_fits(rows):
+    """Return how many rows of a walk settling makes."""
+    return next((at + 1 for at, row in enumerate(rows) if row[0] == "fits"), len(rows))
+
+
+def slow_fitting(evidence):
+    """Return the crews of all families of at most five people that fit, each with an explanation."""
+    found = []
+    for family in all_families(evidence.size):
+        placed = {part for crew in family.crews for part in parts_of(crew)}
+        if sum((group in placed) is not truth for group, truth in evidence.sightings) <= evidence.wrong:
+            found.append(family.crews)
+    return found
+
+
+def scattered(chance, expand, root):
+    """Return the rows of a tree in an order drawn by chance, each behind the row that names it.
+
+    expand returns, for a case, its row and the list of the cases that the last items of the row name.
+    """
+    rows, waiting = [], [(root, None, None)]
+    while waiting:
+        case, parent, place = waiting.pop(chance.randrange(len(waiting)))
+        at = len(rows)
+        if parent is not None:
+            rows[parent][place] = at
+        row, children = expand(case)
+        rows.append(list(row) + [None] * len(children))
+        waiting += [(child, at, len(row) + to) for to, child in enumerate(children)]
+    return [tuple(row) for row in rows]
+
+
+def spoilt(chance, thing):
+    """Return thing with one place in it changed to something else, of the same kind or of another one."""
+    if isinstance(thing, (list, tuple)) and thing and chance.randrange(4):
+        at = chance.randrange(len(thing))
+        if chance.randrange(6):
+            part = [spoilt(chance, thing[at])]
+        else:
+            part = chance.choice([[], [thing[at], thing[at]], [thing[at], thing[0]]])
+        return thing.__class__(list(thing[:at]) + part + list(thing[at + 1:]))
+    choices = [chance.choice(odd_values())]
+    if isinstance(thing, int):
+        choices += [thing + 1, thing - 1, thing == 1, -thing, str(thing), (thing,)]
+    elif isinstance(thing, tuple):
+        choices += [list(thing), thing[::-1], thing[1:], thing[:-1], thing + (0,), thing + (1,), thing * 2, (thing,)]
+    elif isinstance(thing, list):
+        choices += [tuple(thing), thing[::-1], thing[1:], thing[:-1], thing + thing[-1:], thing * 2, [thing]]
+    elif isinstance(thing, str):
+        choices += ["ask", "wrong", "shift", "quarrel", "fits", "try", "family", thing.upper(), thing.encode()]
+    return chance.choice(choices)

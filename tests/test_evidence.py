@@ -1,7 +1,6 @@
 """[3], [4], [70]: evidence."""
 
 import unittest
-from random import Random
 
 from crewlists.errors import BadSighting, TooMany, Wrong
 from crewlists.evidence import Evidence
@@ -10,18 +9,12 @@ from crewlists.jobs import Jobs
 from crewlists.reasons import is_explained
 from crewlists.rolls import Roll
 from helpers import (
-    LINES, PAIRS, all_families, all_groups, large_families, nested, odd_values, parts_of, same_kind,
+    LINES, PAIRS, all_families, all_groups, drawn, large_families, nested, odd_values, parts_of, same_kind,
     unexplained_families,
 )
 
 SIGHTINGS = (((0, 1), True), ((2,), False), ((), True), ((2,), False))
 EVIDENCE = Evidence(3, SIGHTINGS, 1)
-
-
-def drawn(seed, size, count):
-    """Return some sightings of all groups of a size."""
-    chance = Random(seed)
-    return [(chance.choice(all_groups(size)), chance.choice([True, False])) for _ in range(count)]
 
 
 class ConstructorTest(unittest.TestCase):
