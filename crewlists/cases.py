@@ -3,7 +3,7 @@
 from crewlists.checks import is_crews, is_tree
 from crewlists.errors import TooMany
 from crewlists.family import Family
-from crewlists.groups import groups, is_group, is_integer
+from crewlists.groups import groups, is_group
 from crewlists.marks import first_marks, first_shift, is_complete, is_shift, marked, told_family
 from crewlists.reasons import is_answer, lists_of
 

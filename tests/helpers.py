@@ -230,12 +230,18 @@ def crew_sets(size, many):
     ]
 
 
-def all_families(size):
-    """Return all Families of a size, told from other lists of crews by the slow look at exchanges."""
-    return [
+@cache
+def families_of(size):
+    """Return the tuple of all Families of a size, told from other lists of crews by the slow look at exchanges."""
+    return tuple(
         Family(size, crews)
         for many in range(size + 1) for crews in crew_sets(size, many) if slow_fault(crews) is None
-    ]
+    )
+
+
+def all_families(size):
+    """Return a new list of all Families of a size."""
+    return list(families_of(size))
 
 
 def few_families():

@@ -6,10 +6,14 @@ import unittest
 from importlib import import_module
 from pathlib import Path
 
+from crewlists.asking import Asker
+from crewlists.desk import Desk
 from crewlists.evidence import Evidence
 from crewlists.family import Family
+from crewlists.house import House
 from crewlists.jobs import Jobs
 from crewlists.rolls import Roll
+from crewlists.team import Team
 
 PACKAGE = Path(__file__).parent.parent / "crewlists"
 
@@ -44,6 +48,28 @@ FUNCTIONS = {
     "sharing": ["fewest_jobs(family, person)", "share(family, one, other)"],
     "made": ["parted(one, other, group)", "common(one, other)", "helper(family, group)"],
     "likeness": ["renaming(one, other)", "symmetries(family)"],
+    "cases": [
+        "is_walk(evidence, begun, thing)", "walk(evidence, begun=(), *, most=400)",
+        "settle(evidence, begun=(), *, most=400)",
+    ],
+    "sure": [
+        "sure(evidence, group, *, most=400)", "fitting(evidence, *, most=400)", "trial(evidence, *, most=400)",
+        "least_wrong(evidence, *, most=400)",
+    ],
+    "plans": ["is_plan(evidence, count, thing, *, most=400)", "least_plan(evidence, *, most=400)"],
+    "asking": ["learn(size, ask)"],
+    "worths": [
+        "dearest(family, worths, many)", "is_dearest(family, worths, many, thing)",
+        "price(family, worths, many, person)",
+    ],
+    "exchanges": [
+        "ins(family, crew, person)", "outs(family, crew, newcomer)", "both_ways(family, one, other, person)",
+        "pairing(family, one, other)", "at_once(jobs, one, other)", "path(family, one, other)",
+    ],
+    "notation": [
+        "show_group(group)", "show_jobs(jobs)", "show_family(family)", "show_evidence(evidence)", "read_group(text)",
+        "read_jobs(text)", "read_family(text)", "read_evidence(text)",
+    ],
 }
 
 METHODS = {
@@ -61,7 +87,30 @@ METHODS = {
         "deal(self, group)", "greatest(self)", "alike(self, other)", "parting(self, other)",
     ],
     Evidence: ["__init__(self, size, sightings, wrong=0)", "against(self, family)", "fits(self, family)"],
+    Asker: ["__init__(self, family)", "__call__(self, group)"],
+    Team: ["__init__(self, family, crew)", "undo(self)", "during(self, deed)"],
+    House: [
+        "__init__(self, size, slack=0)", "forget(self, at)", "allow(self, slack)", "undo(self)", "redo(self)",
+        "ask(self, group)", "until(self, count)", "branch(self)", "during(self, deed)",
+    ],
+    Desk: ["__init__(self, size)", "execute(self, line)"],
 }
+
+# The methods behind the signs that the document uses, and the properties; both stand in their classes, too.
+SIGNS = {
+    Jobs: ["eq", "len", "iter", "getitem", "abs", "add", "mul", "rmul", "or", "sub"],
+    Family: ["eq", "len", "iter", "contains", "add", "or", "sub", "floordiv", "invert"],
+    Roll: ["eq", "len"],
+    Evidence: ["eq", "len", "add"],
+    Team: ["eq", "len", "iter", "contains", "getitem", "setitem", "sub"],
+    House: ["len", "iter", "getitem", "setitem"],
+}
+PROPERTIES = {Asker: ["asked"], Team: ["log"], House: ["slack", "log"]}
+FIELDS = [
+    (Jobs(1, []), ["size", "jobs"]), (Family(1, [()]), ["size", "crews", "full"]), (Roll(1, []), ["size", "jobs"]),
+    (Evidence(1, []), ["size", "sightings", "wrong"]), (Team(Family(1, [()]), ()), ["family", "crew"]),
+    (House(1), ["size", "told", "evidence"]), (Desk(1), ["house"]),
+]
 
 
 class InterfaceTest(unittest.TestCase):
@@ -81,6 +130,19 @@ class InterfaceTest(unittest.TestCase):
                 self.assertIn(name, vars(kind))
                 self.assertEqual(getattr(kind, name).__module__, kind.__module__)
                 self.assertEqual(name + str(inspect.signature(getattr(kind, name))), text)
+
+    def test_signs_and_properties(self):
+        for kind, names in SIGNS.items():
+            for name in names:
+                self.assertIn("__" + name + "__", vars(kind))
+        for kind, names in PROPERTIES.items():
+            for name in names:
+                self.assertIsInstance(vars(kind)[name], property)
+                self.assertIsNone(vars(kind)[name].fset)
+
+    def test_attributes_are_set_from_the_beginning(self):
+        for thing, names in FIELDS:
+            self.assertLessEqual(set(names), set(vars(thing)))
 
     def test_deals_is_a_generator(self):
         self.assertTrue(inspect.isgeneratorfunction(import_module("crewlists.dealing").deals))
