@@ -24,7 +24,8 @@ class Desk:
             raise NoCommand(line)
         if words[0] in ("can", "cannot", "is"):
             group = as_group(words[1])
-            if group is None or not is_group(self.house.size, group):
+            # A word that says no group gives None, which is no group of any size.
+            if not is_group(self.house.size, group):
                 raise NoCommand(line)
             return self._with_group(words[0], group)
         number = as_number(words[1])

@@ -2,7 +2,7 @@
 
 from crewlists.checks import is_crews, is_tree
 from crewlists.errors import TooMany
-from crewlists.groups import groups, is_group
+from crewlists.groups import groups
 from crewlists.sure import fitting
 
 MOST_FAMILIES = 5
@@ -19,17 +19,13 @@ def is_plan(evidence, count, thing, *, most=400):
     cases = {0: (families, count)}
     for at, row in enumerate(thing):
         possible, trials = cases[at]
-        if row[0] != "try":
-            if not _is_end(possible, row):
-                return False
-        else:
+        if row[0] == "try" and trials > 0:
             _, group, yes, no = row
-            if trials <= 0 or not is_group(evidence.size, group):
-                return False
+            # A trial that does not tell, or of what is no group, leaves no family on one way: no end is right there.
             cases[yes] = ([family for family in possible if group in family], trials - 1)
             cases[no] = ([family for family in possible if group not in family], trials - 1)
-            if not cases[yes][0] or not cases[no][0]:
-                return False
+        elif not _is_end(possible, row):
+            return False
     return True
 
 

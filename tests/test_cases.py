@@ -135,6 +135,16 @@ class IsWalkTest(unittest.TestCase):
         self.assert_walk(False, OPEN, (), two[:1] + [("ask", (1,), 1, 5)] + two[2:])
         self.assert_walk(False, OPEN, (), two[:1] + [("ask", (1,), 0, 5)] + two[2:])
 
+    def test_rows_that_name_themselves_or_one_another(self):
+        ends = [("fits", ((),))] * 5
+        for rows in (
+            [("ask", (0,), 2, 3), ("ask", (1,), 1, 4)], [("ask", (0,), 2, 3), ("ask", (1,), 4, 1)],
+            [("ask", (0,), 3, 4), ("ask", (1,), 2, 5), ("ask", (1,), 1, 6)],
+            [("ask", (0,), 0, 1)], [("ask", (0,), 1, 0)],
+        ):
+            named = max(row[2] for row in rows), max(row[3] for row in rows)
+            self.assert_walk(False, OPEN, (), rows + ends[:max(named) + 1 - len(rows)])
+
     def test_groups_that_are_marked(self):
         ends = [("fits", ((0,),)), ("fits", ((),))]
         for begun in ((), (((0,), True),)):
@@ -245,6 +255,8 @@ class IsWalkTest(unittest.TestCase):
             self.assert_walk(False, SIX, (), rows[:at] + [("quarrel", answer)] + rows[at + 1:])
         for row in (("fits", PAIRS.crews), ("quarrel",), ("quarrel", rows[at][1], 0), ("wrong", (0,)), ("wrong", ())):
             self.assert_walk(False, SIX, (), rows[:at] + [row] + rows[at + 1:])
+        for word in ("Quarrel", "below", "fits ", "", b"quarrel"):
+            self.assert_walk(False, SIX, (), rows[:at] + [(word, rows[at][1])] + rows[at + 1:])
         # What has an explanation is no quarrel, whatever the answer.
         for answer in [("below", (), -1), lists_of(Family.uniform(2, 2))]:
             self.assert_walk(False, OPEN, (((0, 1), True),), [("quarrel", answer)])

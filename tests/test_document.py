@@ -263,7 +263,8 @@ class AnyValueTest(unittest.TestCase):
     """[2], [4]: what takes any value takes each, and truths are no integers."""
 
     def test_whether_a_value_is_right(self):
-        things = odd_values() + [JOBS, FAMILY, ROLL, EVIDENCE, TEAM, HOUSE, walk(EVIDENCE), weights(FAMILY), lists_of(PAIRS)]
+        things = odd_values() + [JOBS, FAMILY, ROLL, EVIDENCE, TEAM, HOUSE]
+        things += [walk(EVIDENCE), weights(FAMILY), lists_of(PAIRS)]
         for thing in things:
             for found in (
                 is_integer(thing), is_group(5, thing), is_deal(JOBS, (0, 1), thing), is_answer(FAMILY, thing),
@@ -276,8 +277,8 @@ class AnyValueTest(unittest.TestCase):
 
     def test_truths_are_no_integers(self):
         found = [
-            is_integer(True), is_group(2, (False, True)), is_deal(JOBS, (0,), (False,)), (True,) in FAMILY, True in TEAM,
-            is_dearest(FAMILY, (1, 1, 1, 1), 1, (True,)), is_walk(Evidence(0, []), (), [("fits", (False,))]),
+            is_integer(True), is_group(2, (False, True)), is_deal(JOBS, (0,), (False,)), (True,) in FAMILY,
+            True in TEAM, is_dearest(FAMILY, (1, 1, 1, 1), 1, (True,)), is_walk(Evidence(0, []), (), [("fits", (False,))]),
             is_walk(Evidence(1, [((), False)]), (), [("wrong", (False,))]), is_answer(PAIRS, ("below", (), True)),
         ]
         self.assertEqual(found, [False] * 9)

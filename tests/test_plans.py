@@ -182,6 +182,16 @@ class IsPlanTest(unittest.TestCase):
             for row in rows:
                 self.assert_plan(False, TWO, 9, PLAN[:at] + [row] + PLAN[at + 1:])
 
+    def test_rows_that_name_themselves_or_one_another(self):
+        ends = [("family", ((),))] * 5
+        for rows in (
+            [("try", (0,), 2, 3), ("try", (1,), 1, 4)], [("try", (0,), 2, 3), ("try", (1,), 4, 1)],
+            [("try", (0,), 3, 4), ("try", (1,), 2, 5), ("try", (1,), 1, 6)],
+            [("try", (0,), 0, 1)], [("try", (0,), 1, 0)],
+        ):
+            named = max(row[2] for row in rows), max(row[3] for row in rows)
+            self.assert_plan(False, TWO, 9, rows + ends[:max(named) + 1 - len(rows)])
+
     def test_no_family_fits(self):
         self.assert_plan(True, NONE, 0, [])
         self.assert_plan(True, NONE, 7, [])
