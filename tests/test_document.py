@@ -278,7 +278,8 @@ class AnyValueTest(unittest.TestCase):
     def test_truths_are_no_integers(self):
         found = [
             is_integer(True), is_group(2, (False, True)), is_deal(JOBS, (0,), (False,)), (True,) in FAMILY,
-            True in TEAM, is_dearest(FAMILY, (1, 1, 1, 1), 1, (True,)), is_walk(Evidence(0, []), (), [("fits", (False,))]),
+            True in TEAM, is_dearest(FAMILY, (1, 1, 1, 1), 1, (True,)),
+            is_walk(Evidence(0, []), (), [("fits", (False,))]),
             is_walk(Evidence(1, [((), False)]), (), [("wrong", (False,))]), is_answer(PAIRS, ("below", (), True)),
         ]
         self.assertEqual(found, [False] * 9)
